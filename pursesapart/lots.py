@@ -120,7 +120,7 @@ def joined_lots(trust, bank, one, other):
     if clash is not None:
         raise Clash(clash[0], clash[1])
     inside = {name: True for name in one}
-    return tuple(sorted([*one, *[name for name in other if name not in inside]]))
+    return tuple(sorted(list(one) + [name for name in other if name not in inside]))
 
 
 def common_lot(trust, bank, one, other):
