@@ -74,6 +74,16 @@ def is_member(bank, value):
     return is_number_below(value, bank[1])
 
 
+def are_ascending_purses(bank, values):
+    """Whether these values are unlike ascending numbers of purses."""
+    return all([is_purse(bank, value) for value in values]) and is_ascending(values)
+
+
+def are_ascending_members(bank, values):
+    """Whether these values are unlike ascending numbers of members."""
+    return all([is_member(bank, value) for value in values]) and is_ascending(values)
+
+
 def is_row(bank, value):
     """Whether any value is a tuple with a number from 0 on for each purse."""
     if not isinstance(value, tuple) or len(value) != len(bank[0]):

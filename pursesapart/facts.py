@@ -49,6 +49,13 @@ def fact_of(trust, bank, name):
     return facts[name]
 
 
+def facts_with(trust, bank, names):
+    """The facts of the bank, those of these given names among them."""
+    for name in names:
+        fact_of(trust, bank, name)
+    return trust.facts_for(bank)
+
+
 def unknown_names(trust, bank, facts, name):
     """The ascending names of the past of a name without a fact that have none either."""
     met = {name: True}

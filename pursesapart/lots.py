@@ -1,6 +1,6 @@
 """Lots of payments: their sequences, joins and covers, and what purses hold together along them."""
 
-from pursesapart.checks import check_amount, check_purse, is_ascending, is_purse
+from pursesapart.checks import are_ascending_purses, check_amount, check_purse
 from pursesapart.errors import BadLot, BadPayments, BadPurses, BadSequence, Clash, Poor, TooMany
 from pursesapart.facts import fact_of, lasts_among, least_clash, move, named_causes, purses_behind
 from pursesapart.greatest import greatest_out_of
@@ -234,10 +234,8 @@ def content_for(trust, bank, lot, purse, to, amount):
 def facts_for_purses(trust, bank, lot, purses):
     """BadLot, BadPurses: the facts of the bank, those of the payments of the right lot among them."""
     facts = facts_of_right_lot(trust, bank, lot)
-    if not isinstance(purses, tuple) or not all([is_purse(bank, purse) for purse in purses]):
-        raise BadPurses("a tuple of numbers of purses is wanted")
-    if not is_ascending(purses):
-        raise BadPurses("unlike ascending numbers of purses are wanted")
+    if not isinstance(purses, tuple) or not are_ascending_purses(bank, purses):
+        raise BadPurses("a tuple of unlike ascending numbers of purses is wanted")
     return facts
 
 

@@ -2,7 +2,7 @@
 
 from pursesapart.checks import is_member, need_of
 from pursesapart.errors import BadCertificate, BadVote
-from pursesapart.payments import has_outer_form
+from pursesapart.facts import fact_of
 from pursesapart.trust import check_both, is_ascending_names
 
 
@@ -20,7 +20,9 @@ def ballot_of(trust, bank, name):
     if not isinstance(content, tuple) or len(content) != 3 or content[0] != "vote":
         return None
     _, member, payment = content
-    if not is_member(bank, member) or not has_outer_form(trust, bank, payment):
+    if not is_member(bank, member) or not trust.is_name(payment):
+        return None
+    if fact_of(trust, bank, payment).parts is None:
         return None
     if not trust.sealed(("member", member), name):
         return None
@@ -64,11 +66,21 @@ def certificate_of(trust, bank, payment, votes):
     ballots = [checked_ballot(trust, bank, vote) for vote in votes]
     if not trust.is_name(payment):
         return None
-    chosen = {}
-    for at, (member, voted) in enumerate(ballots):
-        if voted == payment:
-            chosen[member] = votes[at]
-    need = need_of(bank)
-    if len(chosen) < need:
+    chosen = votes_by_payment(votes, ballots).get(payment, {})
+    if len(chosen) < need_of(bank):
         return None
-    return (payment, tuple(sorted([chosen[member] for member in sorted(chosen)[:need]])))
+    return certificate_out_of(bank, payment, chosen)
+
+
+def votes_by_payment(votes, ballots):
+    """The dict from each payment voted for to the dict from the members to their votes for it."""
+    chosen = {}
+    for vote, (member, payment) in zip(votes, ballots):
+        chosen.setdefault(payment, {})[member] = vote
+    return chosen
+
+
+def certificate_out_of(bank, payment, chosen):
+    """The certificate by the least members of the dict from members, enough of them, to their votes."""
+    least = sorted(chosen)[:need_of(bank)]
+    return (payment, tuple(sorted([chosen[member] for member in least])))

@@ -95,3 +95,50 @@ def chain(trust, bank, many):
         lasts[purse] = name
         names.append(name)
     return names
+
+
+def paid(trust, purse, number, to, amount, *causes):
+    """The name of this payment, sealed by its owner."""
+    name = pay(trust, purse, number, to, amount, *causes)
+    trust.seal(("owner", purse), name)
+    return name
+
+
+def sealed_chain(trust, bank, many):
+    """The chain with the seals of the owners."""
+    names = chain(trust, bank, many)
+    for name in names:
+        trust.seal(("owner", trust.content(name)[1]), name)
+    return names
+
+
+def certified(trust, bank, payment):
+    """A certificate of the payment by the least members."""
+    return certificate(trust, range(bank[1] - bank[2]), payment)
+
+
+def bent_certificates(trust, good):
+    """Values that are no certificates, each one the good one bent in a place; members 0, 1, 2 voted in it of 4."""
+    payment, some = good
+    more = trust.name(("vote", 3, payment))
+    forged = trust.name(("vote", 2, payment, None))
+    other = vote(trust, 3, pay(trust, 0, 77, 0, 1, *[None] * len(trust.content(payment)[5])))
+    return [
+        None, True, 0, "certificate", (), [], {}, payment, some, list(good), good + (None,), (payment,),
+        (payment, list(some)), (payment, some[:2]), (payment, some[::-1]), (payment, some[:2] + some[1:2]),
+        (payment, some[:2] + (more,)), (payment, some[:2] + (forged,)), (payment, some[:2] + (other,)),
+        (payment, some + (more,)), (some[0], some), (payment, (payment,) + some[:2]), (payment, (some[0], True, some[2])),
+        (payment, some[:2] + (None,)), (payment, some[:2] + (("name", LONG - 1),)), (payment, some[:2] + ([],)),
+        (list(payment), some), (("name", LONG - 1), some), (None, some), ({}, some), (("name", True), some),
+        (("name", False), some), (payment, {0: some[0]}), (payment, "ab"), (payment, (some,)), Trust(),
+    ]
+
+
+BAD_ROWS = [
+    None, True, 0, (), (0,), (0, 0, 0), [0, 0], (0, -1), (True, 0), (0, False), (0, None), ("0", 0), (LONG, 0),
+    ((0, 0),), (0, (0,)), {0: 0, 1: 0}, Trust(),
+]
+BAD_CONTENTS = [
+    True, False, [], {}, LONG, -LONG, (True,), (0, (False,)), ((), [0]), (LONG,), ("pay", (None, {})), Trust(), b"a",
+    ("name", True), ("name", LONG), nested(0, 60), (errors.BadCell("any text"),),
+]

@@ -26,12 +26,36 @@ INTERFACE = {
     "papers": """paper_of(trust,bank,one,other) wrong_paper(trust,bank,vote) is_paper(trust,bank,value)
         convicted(trust,bank,paper)""",
     "letters": "is_letter(bank,value)",
+    "disks": "Disk(cells,fuse)",
+    "shelves": """is_shelf(trust,bank,value) taken_in(trust,bank,shelf,certificates) row_of_shelf(trust,bank,shelf)
+        shelf_above(trust,bank,shelf,row)""",
+    "members": "Member(trust,bank,number,disk)",
+    "owners": "may_lack(trust,bank,shelf,end) Owner(trust,bank,purse,disk)",
+    "books": """Book(trust,bank) book_of(trust,bank,certificates) certificates(book) joined_books(one,other)
+        is_part_of(one,other) common_book(one,other) lacking(book,row) book_of_votes(trust,bank,votes)""",
+    "court": """named(trust,bank,votes) clash_papers(trust,bank,one,other) wrong_papers(trust,bank,certificate)
+        clash_lots(bank,members) judged(trust,bank,books) sums_told(trust,bank,books)
+        most_overdrawn(trust,bank,books) forged(trust,bank,books) owners_named(trust,bank,books)""",
+    "runs": "Play(bank,liars,cheats)",
+    "plans": """is_plan(trust,bank,liars,value) booked_by(trust,bank,liars,plan) carry_out(trust,bank,liars,plan)""",
+    "mostly": """rest_of(trust,bank,liars,plan,payments) lock_of(trust,bank,liars,plan,purse)
+        lock_plan(trust,bank,liars,plan,payments) most_beside(bank,many) beside_plan(trust,bank,liars,payments)
+        most_paid(trust,bank,liars,payments,owners) paid_out(trust,bank,payments,owners,to)
+        drain_plan(trust,bank,liars,purse,to,times)""",
 }
 METHODS = {
     ("trust", "Trust"): "name(content) is_name(value) content(name) size() seal(who,name) sealed(who,name)",
+    ("disks", "Disk"): "read(cell) write(cell,value) cells()",
+    ("members", "Member"): "shelf() voted() row() hear(letter)",
+    ("owners", "Owner"): "shelf() asked() has() pay(to,amount) again() news() look() hear(letter)",
+    ("books", "Book"): """take(certificate) booked() waiting() certificate(payment) row() last() purses() copy()
+        __eq__(other)""",
+    ("runs", "Play"): """pay(purse,to,amount) again(purse) news(purse) look(purse) bring(number) fall(who,writes)
+        back(who) lie(who,content) send(letter) count() letter(number) waiting(end) moment() is_gone(who)
+        cells_of(who) shelf_of(who) owner_at(purse) member_at(member) ledger() calls()""",
 }
 SEQUENCE = ["errors", "checks", "trust", "facts", "payments", "flows", "greatest", "holdings", "lots", "votes",
-            "papers", "letters"]
+            "papers", "letters", "disks", "shelves", "members", "owners", "books", "court", "runs", "plans", "mostly"]
 
 
 def signatures(text):

@@ -6,6 +6,8 @@ import pathlib
 import re
 import unittest
 
+from pursesapart import errors
+
 FOLDER = pathlib.Path(__file__).resolve().parent.parent / "pursesapart"
 FILES = sorted(FOLDER.glob("*.py"))
 BUILTINS = """len range enumerate zip min max sum abs sorted reversed int str bool list tuple dict isinstance ord repr
@@ -26,7 +28,7 @@ BARRED_WORDS = r"\b(type|typing|enum|Enum|Generic|Protocol|ABC|ABCMeta|namedtupl
 BARRED_NODES = (
     ast.AsyncFunctionDef, ast.AsyncFor, ast.AsyncWith, ast.Await, ast.Global, ast.GeneratorExp, ast.Set, ast.SetComp,
     ast.Import, ast.AnnAssign, ast.Yield, ast.YieldFrom, ast.NamedExpr, ast.JoinedStr, ast.Div, ast.MatMult,
-    ast.Try, ast.With, ast.Match,
+    ast.With, ast.Match,
 )
 
 
@@ -121,8 +123,16 @@ class Language(unittest.TestCase):
                 self.check_literal(node)
             if isinstance(node, ast.Compare):
                 self.check_is(node)
+            if isinstance(node, ast.Try):
+                self.check_try(node)
             if isinstance(node, ast.arguments):
                 self.assertIsNone(node.vararg or node.kwarg)
+
+    def check_try(self, node):
+        """Only errors of the package are caught, by their names."""
+        self.assertEqual([], node.finalbody, node.lineno)
+        for handler in node.handlers:
+            self.assertTrue(issubclass(getattr(errors, handler.type.id), errors.PurseError), node.lineno)
 
     def check_literal(self, node):
         """No floats, no bytes, no sign of percent, no barred words."""
@@ -165,11 +175,28 @@ class Language(unittest.TestCase):
     def test_no_name_is_a_method_and_an_attribute(self):
         nodes = [node for path in FILES for node in ast.walk(ast.parse(path.read_text()))]
         kinds = [node for node in nodes if isinstance(node, ast.ClassDef)]
-        own = {item.name for kind in kinds for item in kind.body if isinstance(item, ast.FunctionDef)}
+        own, stored = set(), set()
+        for kind in kinds:
+            methods = {item.name for item in kind.body if isinstance(item, ast.FunctionDef)}
+            assigned = {node.attr for node in ast.walk(kind)
+                        if isinstance(node, ast.Attribute) and isinstance(node.ctx, ast.Store)}
+            self.assertEqual(set(), methods & assigned, kind.name)
+            own |= methods
+            stored |= assigned
+        # In unlike classes a name may be both if no method is read off a class; no class has a base but errors.
+        self.assertEqual({"has"}, own & stored)
         read = {node.attr for node in nodes if isinstance(node, ast.Attribute)}
-        set_up = {node.attr for node in nodes if isinstance(node, ast.Attribute) and isinstance(node.ctx, ast.Store)}
-        self.assertEqual(set(), own & set_up)
-        self.assertEqual(set(), read - own - set_up - set(METHODS))
+        self.assertEqual(set(), read - own - stored - set(METHODS))
+        names = {kind.name for kind in kinds}
+        for node in nodes:
+            if isinstance(node, ast.Attribute) and isinstance(node.value, ast.Name):
+                self.assertNotIn(node.value.id, names)
+
+    def test_equality_asks_for_the_class_first(self):
+        for path in FILES:
+            for node in ast.walk(ast.parse(path.read_text())):
+                if isinstance(node, ast.FunctionDef) and node.name == "__eq__":
+                    self.assertRegex(ast.unparse(node.body[0]), r"^if not isinstance\(other, \w+\):\n +return False$")
 
     def test_barred_words_outside_of_docstrings(self):
         self.over_files(self.check_barred_words_outside_of_docstrings)
