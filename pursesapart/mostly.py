@@ -77,7 +77,7 @@ def steps_lacking(facts, steps, payment):
     barred = voters + members_against(facts, steps, payment) + list(steps.liars)
     free = [member for member in range(steps.bank[1]) if member not in barred]
     liars = [member for member in steps.liars if member not in voters]
-    many = max(0, need_of(steps.bank) - len(voters))
+    many = max(0, steps.need - len(voters))
     return [(member, payment) for member in (free + liars)[:many]]
 
 

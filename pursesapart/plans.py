@@ -14,6 +14,7 @@ class Steps:
         self.trust = trust
         self.bank = bank
         self.liars = liars
+        self.need = need_of(bank)
         self._done = {}
         self._voters = {}
         self._rivals = {}
@@ -54,7 +55,7 @@ class Steps:
         return list(booked)
 
     def _is_certified(self, payment):
-        return len(self._voters.get(payment, {})) >= need_of(self.bank)
+        return len(self._voters.get(payment, {})) >= self.need
 
     def _learns(self, member, payment, parts):
         """Whether a member that does not lie can vote for a right payment; if so, it knows what is below it."""

@@ -29,7 +29,7 @@ class Play:
         self._moment = 0
         self._ledger = {}
         self._calls = []
-        self._open = {}
+        self._unended = {}
         self._disks = {}
         self._ends = {}
         for purse in range(len(bank[0])):
@@ -50,7 +50,7 @@ class Play:
             self._close(who, [])
         else:
             self._close(who, letters)
-            self._open[purse] = len(self._calls)
+            self._unended[purse] = len(self._calls)
             self._calls.append((purse, owner.asked(), self._moment, None))
 
     def again(self, purse):
@@ -206,12 +206,12 @@ class Play:
         if who in self._ends:
             for item in self.shelf_of(who):
                 self._ledger.setdefault(item[0], self._moment)
-        if who[0] == "owner" and who[1] in self._open:
+        if who[0] == "owner" and who[1] in self._unended:
             self._close_call(who)
 
     def _close_call(self, who):
-        at = self._open[who[1]]
+        at = self._unended[who[1]]
         call = self._calls[at]
         if self._disks[who].read("asked") != call[1]:
             self._calls[at] = call[:3] + (self._moment,)
-            del self._open[who[1]]
+            del self._unended[who[1]]

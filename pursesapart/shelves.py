@@ -58,8 +58,8 @@ def row_on(trust, bank, shelf):
 
 def part_above(trust, bank, shelf, row):
     """The tuple of the certificates of the shelf above the row."""
-    every = zip(shelf, parts_on(trust, bank, shelf))
-    return tuple([item for item, parts in every if parts[1] > row[parts[0]]])
+    pairs = list(zip(shelf, parts_on(trust, bank, shelf)))
+    return tuple([item for item, parts in pairs if parts[1] > row[parts[0]]])
 
 
 def grown(trust, bank, shelf, items):
