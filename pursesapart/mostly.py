@@ -116,9 +116,8 @@ def stand_against(counts, payment):
 
 
 def is_locked(bank, counts):
-    """Whether more than may lie stand against each payment; counts has the holders of each payment."""
-    held = [payment for payment in counts if counts[payment] > 0]
-    return bool(held) and all([stand_against(counts, payment) > bank[2] for payment in held])
+    """Whether more than may lie stand against each payment; counts has how many hold each one that is held."""
+    return bool(counts) and all([stand_against(counts, payment) > bank[2] for payment in counts])
 
 
 def lock_plan(trust, bank, liars, plan, payments):

@@ -152,7 +152,7 @@ class Owner:
 
     def _hear_vote(self, member, vote):
         payment = self.asked()
-        if payment is None or ballot_of(self.trust, self.bank, vote) != (member, payment):
+        if ballot_of(self.trust, self.bank, vote) != (member, payment):
             return []
         self._heard[member] = vote
         if len(self._heard) < need_of(self.bank):

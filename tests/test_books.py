@@ -45,6 +45,23 @@ class Books(unittest.TestCase):
         self.assertEqual(((1, 0), (2, 3), (self.x, None)), (self.book.row(), self.book.purses(), self.book.last()))
         self.assertEqual((self.y,), self.book.take(self.d))
 
+    def test_whatever_is_taken_first_payments_are_told_ascending(self):
+        bank = ((5, 5, 5), 4, 1)
+        x, *others = [pay(self.trust, 0, 1, 0, 1, None, None, None)] + [
+            pay(self.trust, purse, 1, 0, 1, *causes) for purse, causes in ((1, (None,) * 3), (2, (None,) * 3))]
+        y, z = [pay(self.trust, purse, 2, 0, 1, *[x] + [other if purse == at else None for at in (1, 2)])
+                for purse, other in ((1, others[0]), (2, others[1]))]
+        names = [x, *others, y, z]
+        self.assertEqual(sorted(names), names)
+        book = Book(self.trust, bank)
+        for name in (others[1], others[0], z, y):
+            book.take(certified(self.trust, bank, name))
+        self.assertEqual(((others[0], others[1]), (y, z)), (book.booked(), book.waiting()))
+        self.assertEqual((x, y, z), book.take(certified(self.trust, bank, x)))
+        self.assertEqual(tuple(names), book.booked())
+        book = book_of(self.trust, bank, [certified(self.trust, bank, name) for name in (others[1], others[0], y, z)])
+        self.assertEqual((x, y, z), book.take(certified(self.trust, bank, x)))
+
     def test_a_certificate_that_is_here_stays(self):
         for item, payment in ((self.d, self.y), (self.c, self.x)):
             self.book.take(item)

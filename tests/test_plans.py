@@ -129,6 +129,40 @@ class Plans(unittest.TestCase):
         self.assertTrue(self.plan(*both, (3, self.b), (3, e), liars=liars))
         self.assertTrue(self.plan(*both, (2, d), (2, e), liars=liars))
 
+    def test_all_that_is_below_must_be_certified_however_deep(self):
+        trust = Trust()
+        bank = ((5, 5, 5), 4, 1)
+        a = paid(trust, 0, 1, 0, 1, None, None, None)
+        c = paid(trust, 0, 2, 0, 1, a, None, None)
+        e = paid(trust, 0, 3, 0, 1, c, None, None)
+        liars = (0, 1, 2)
+        above = tuple((member, c) for member in liars)
+        below = tuple((member, a) for member in liars)
+        self.assertFalse(is_plan(trust, bank, liars, above + ((3, e),)))
+        self.assertFalse(is_plan(trust, bank, liars, above + below[:2] + ((3, e),)))
+        self.assertTrue(is_plan(trust, bank, liars, above + below + ((3, e),)))
+        self.assertTrue(is_plan(trust, bank, liars, above + below + ((3, c), (3, e))))
+
+    def test_what_a_member_knows_must_not_clash_however_deep(self):
+        trust = Trust()
+        bank = ((5, 5, 5), 4, 1)
+        ways = []
+        for amount in (1, 2):
+            ways.append([paid(trust, 0, 1, 0, amount, None, None, None)])
+            for number in (2, 3):
+                ways[-1].append(paid(trust, 0, number, 0, 1, ways[-1][-1], None, None))
+        liars = (0, 1, 2)
+        plan = tuple((member, name) for way in ways for name in way for member in liars)
+        for purse, last in ((1, 0), (1, 1), (1, 2)):
+            one = paid(trust, purse, 1, 0, 1, ways[0][last], None, None)
+            for other_last in (0, 1, 2):
+                other = paid(trust, 2, 1, 0, 1, ways[1][other_last], None, None)
+                own = paid(trust, 2, 1, 0, 1, ways[0][other_last], None, None)
+                self.assertFalse(is_plan(trust, bank, liars, plan + ((3, one), (3, other))))
+                self.assertFalse(is_plan(trust, bank, liars, plan + ((3, other), (3, one))))
+                self.assertTrue(is_plan(trust, bank, liars, plan + ((3, own), (3, one))))
+                self.assertTrue(is_plan(trust, bank, liars, plan + ((3, one), (3, own))))
+
     def test_any_value_may_be_asked(self):
         bads = odd_values() + [list(self.booked), self.booked[0], (list(self.booked[0]),), ((0,),), ((0, self.a, 0),),
                                ((True, self.a),), ((4, self.a),), ((-1, self.a),), ((self.a, 0),), ((None, self.a),),

@@ -100,6 +100,18 @@ class Rest(unittest.TestCase):
         e = paid(trust, 1, 2, 0, 1, a, c)
         self.assertEqual(("against", a, (1, 2, 3)), rest_of(trust, plain.bank, (), plan, [e]))
 
+    def test_against_tells_members_in_their_sequence(self):
+        third = paid(self.trust, 0, 1, 1, 3, None, None)
+        for plan in (((1, self.a), (0, self.b)), ((0, self.b), (1, self.a)), ((1, self.b), (0, self.a))):
+            self.assertEqual(("against", third, (0, 1)), self.rest([third], plan + ((2, third),)))
+
+    def test_more_votes_than_needed(self):
+        bank = ((5, 0), 10, 3)
+        for many in range(11):
+            plan = tuple((member, self.a) for member in range(many))
+            word, rest = rest_of(self.trust, bank, (9,), plan, [self.a])
+            self.assertEqual(("plan", max(0, 7 - many)), (word, len(rest)))
+
     def test_small_banks_against_all_further_steps(self):
         words = {"forged": 0, "clash": 0, "against": 0, "plan": 0}
         for seed in range(70):
