@@ -83,7 +83,7 @@ class Language(unittest.TestCase):
                 names += [alias.name for alias in node.names]
                 self.check_import(node)
             elif isinstance(node, ast.Assign):
-                self.assertIsInstance(node.value, ast.Constant)
+                self.check_plain(node.value)
                 names += [target.id for target in node.targets]
             elif isinstance(node, ast.Expr):
                 self.assertEqual(0, at)
@@ -91,6 +91,19 @@ class Language(unittest.TestCase):
                 self.assertIsInstance(node, (ast.FunctionDef, ast.ClassDef))
                 names.append(node.name)
         self.assertEqual(len(names), len(set(names)))
+
+    def check_plain(self, value):
+        """A plain value: literals, tuples of such, and dicts of these."""
+        if isinstance(value, ast.Dict):
+            for item in value.keys + value.values:
+                self.assertNotIsInstance(item, ast.Dict)
+                self.check_plain(item)
+        elif isinstance(value, ast.Tuple):
+            for item in value.elts:
+                self.assertNotIsInstance(item, ast.Dict)
+                self.check_plain(item)
+        else:
+            self.assertIsInstance(value, ast.Constant)
 
     def check_import(self, node):
         """Imports are full, without another name, and name what stands in that very file."""
@@ -102,6 +115,7 @@ class Language(unittest.TestCase):
             else:
                 tree = ast.parse((FOLDER / (node.module.split(".")[1] + ".py")).read_text())
                 here = [item.name for item in tree.body if isinstance(item, (ast.FunctionDef, ast.ClassDef))]
+                here += [target.id for item in tree.body if isinstance(item, ast.Assign) for target in item.targets]
                 self.assertIn(alias.name, here)
 
     def test_imports_are_used(self):
