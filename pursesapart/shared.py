@@ -3,9 +3,8 @@
 from itertools import combinations
 
 from pursesapart.checks import check_bank, check_purse, is_ascending, is_number_below, is_number_from
-from pursesapart.errors import BadCharter, BadLeast, BadMany, BadOwner, BadOwners, BadPayment, BadProposer
-from pursesapart.errors import BadProposers, BadSplit
-from pursesapart.payments import has_outer_form, payment_of
+from pursesapart.errors import BadCharter, BadLeast, BadMany, BadOwner, BadOwners, BadProposer, BadProposers, BadSplit
+from pursesapart.payments import payment_of
 from pursesapart.trust import check_both
 
 MOST_OWNERS = 6
@@ -135,8 +134,6 @@ def signed_by(trust, bank, charter, payment):
     """The ascending tuple of the owners of its purse that have sealed the payment."""
     check_both(trust, bank)
     check_charter(charter)
-    if not has_outer_form(trust, bank, payment):
-        raise BadPayment("the name of a payment is wanted")
     purse = payment_of(trust, bank, payment)[0]
     return tuple([owner for owner in range(charter[0]) if trust.sealed(owner_of(bank, purse, owner), payment)])
 
@@ -167,7 +164,7 @@ def heads_signed(charter, split):
     """The heads of what is known to be a split whose proposals are signed."""
     signed = []
     for head in charter[1]:
-        if split[head] == head and has_lot(charter, followers(split, head)):
+        if has_lot(charter, followers(split, head)):
             signed.append(head)
     return tuple(signed)
 

@@ -13,10 +13,12 @@ class Sharing:
     def __init__(self, bank, charter, false=(), liars=(), agreed=False):
         check_bank(bank)
         check_charter(charter)
-        check_false(charter, false)
+        if not are_owners(charter[0], false):
+            raise BadOwners("an ascending tuple of owners is wanted")
         if not isinstance(liars, tuple) or not are_ascending_members(bank, liars) or len(liars) > bank[2]:
             raise BadLiars("an ascending tuple of at most as many members as may lie is wanted")
-        check_agreed(agreed)
+        if agreed is not True and agreed is not False:
+            raise BadAgreed("it is told by True or False whether the owners agreed")
         self._bank = bank
         self._charter = charter
         self._false = false
@@ -137,24 +139,8 @@ class Sharing:
         return self._is_free(member) and has_lot(self._charter, self._seals[proposal])
 
 
-def check_false(charter, false):
-    """BadOwners unless it is an ascending tuple of unlike owners."""
-    if not are_owners(charter[0], false):
-        raise BadOwners("an ascending tuple of owners is wanted")
-
-
-def check_agreed(agreed):
-    """BadAgreed unless it is True or False."""
-    if agreed is not True and agreed is not False:
-        raise BadAgreed("it is told by True or False whether the owners agreed")
-
-
 def locking_run(bank, charter, false=(), agreed=False):
     """Acts behind which the purse is locked, though no member lies; None if there are none."""
-    check_bank(bank)
-    check_charter(charter)
-    check_false(charter, false)
-    check_agreed(agreed)
     if Sharing(bank, charter, false, (), agreed).locked():
         return ()
     if need_of(bank) > 1:

@@ -416,6 +416,10 @@ class Drills(unittest.TestCase):
         for frame in BAD_FRAMES:
             with self.assertRaises(BadFrame):
                 Drill(frame, (), "members")
+        for some in [(1, 0), (1, 1), (0, 1, 2), (6, 7)]:
+            with self.assertRaises(BadLiars):
+                Drill(((5, 0), 7, 2), some, None)
+        Drill(((5, 0), 7, 2), (0, 6), None)
         for frame in FEW + [FOUR]:
             Drill(frame, (), "members")
         self.assertEqual(("bad", 1), drilled(FOUR, (), None, [ALL] * 300))

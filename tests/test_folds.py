@@ -298,6 +298,16 @@ class Folds(unittest.TestCase):
         self.assertFalse(right_above(trust, bank, kept, poor))
         self.assertFalse(above(0, 3, 1, 1, (one, poor, two)))
 
+    def test_two_below_with_one_purse_and_number(self):
+        """Each cause is the last one of its purse, but below them two of purse 0 have the number 1."""
+        trust = Trust()
+        nothing = ((0, 0), (None, None), (5, 5))
+        one, two = pay(trust, 0, 1, 1, 1, None, None), pay(trust, 0, 1, 1, 2, None, None)
+        above, other = pay(trust, 0, 2, 1, 1, one, None), pay(trust, 1, 1, 0, 1, two, None)
+        same = pay(trust, 1, 1, 0, 1, one, None)
+        self.assertFalse(right_above(trust, ((5, 5), 4, 1), nothing, pay(trust, 1, 2, 0, 1, above, other)))
+        self.assertTrue(right_above(trust, ((5, 5), 4, 1), nothing, pay(trust, 1, 2, 0, 1, above, same)))
+
     def test_no_content_of_a_kept_name_is_looked_at(self):
         class Watched(Trust):
             asked = []

@@ -75,6 +75,12 @@ class Sharings(unittest.TestCase):
         self.assertTrue(Sharing(SMALL, CHARTER, (), (), True).is_act(("propose", 0)))
         self.assertTrue(done(Sharing(SMALL, CHARTER, (1,)), [("propose", 1)] * 2).is_act(("sign", 0, 1)))
 
+    def test_agreed_owners_sign_no_second_proposal(self):
+        """Only the second proposal could be signed: the owners that agreed do not, and those that did not do."""
+        for agreed in (True, False):
+            sharing = done(Sharing(SMALL, (3, (0, 1), ((1, 2),)), (0, 1), (), agreed), [("propose", 0), ("propose", 1)])
+            self.assertIs(agreed, sharing.locked())
+
     def test_thirty_proposals(self):
         sharing = Sharing(SMALL, CHARTER, (1,))
         done(sharing, [("propose", 1)] * 30)
@@ -311,6 +317,9 @@ class Sharings(unittest.TestCase):
             Sharing(SMALL, CHARTER, *rest)
         with self.assertRaises(BadLiars):
             Sharing(PAIR, CHARTER, (), (0,))
+        for liars in [(1, 0), (1, 1), (0, 1, 2), (6, 7)]:
+            with self.assertRaises(BadLiars):
+                Sharing(((5, 0), 7, 2), CHARTER, (), liars)
 
     def test_what_is_left_out_stands_for_nobody(self):
         sharing = done(Sharing(SMALL, CHARTER), [("propose", 0)])

@@ -124,6 +124,14 @@ class Texts(unittest.TestCase):
                     self.check_bad_steps(line, bent)
         self.assertGreater(min(counts.values()), 10, counts)
 
+    def test_bad_steps_by_hand(self):
+        for line, text in [(2, "steps 1\nask 0 2\n"), (2, "steps 1\nask 4 0\n"), (3, "steps 2\nask 3 1\nask 3 1\n"),
+                           (1, "steps 3001\n"), (2, "steps 3000\n"), (1, "steps\n"), (1, "steps 1 1\nask 0 0\n"),
+                           (2, "steps 1\nask 0 0 0\n"), (2, "steps 1\nask 0\n"), (2, "steps 1\nsteps 0 0\n"),
+                           (3, "steps 1\nask 0 0\nask 0 1\n"), (2, "steps 1\nask 0 0")]:
+            self.check_bad_steps(line, text)
+        self.check_bad_steps(2, "steps 1\nask 0 0\n", [])
+
     def check_bad_steps(self, line, text, web=None):
         with self.assertRaises(BadText) as caught:
             read_steps(self.trust, SMALL, [self.a, self.b] if web is None else web, text)
