@@ -325,6 +325,63 @@ class Sure(unittest.TestCase):
                 self.assertIs(False, is_may(self.trust, SMALL, known, [self.a], value))
                 self.assertEqual(value == ("votes",), is_sure(self.trust, SMALL, known, self.b, value))
 
+    def test_lots_told_as_they_should_be(self):
+        """Nothing is known: each lot of at most lies members is possible, if it is told as an ascending tuple."""
+        bank = ((5, 0), 7, 2)
+        for liars in [(), (0,), (6,), (0, 6), (3, 4)]:
+            self.assertTrue(is_may(self.trust, bank, [], [self.a], ("can", liars)))
+            self.assertTrue(is_sure(self.trust, bank, [], self.a, ("open", liars)))
+        for liars in [None, 0, [], [0], (1, 0), (1, 1), (7,), (-1,), (True,), (0, True), (False,), (None,), ("0",), ((0,),),
+                      (0, 1, 2), {}, "", "01"]:
+            self.assertFalse(is_may(self.trust, bank, [], [self.a], ("can", liars)), liars)
+            self.assertFalse(is_sure(self.trust, bank, [], self.a, ("open", liars)), liars)
+        for value in [(), ("can",), ("can", (), None), ("never",), ("never", None, None), ["can", ()], ((), "can"), ("open", ())]:
+            self.assertFalse(is_may(self.trust, bank, [], [self.a], value), value)
+        for value in [(), ("open",), ("open", (), None), ("sure",), ("sure", None, None), ["open", ()], ("votes",), ("can", ())]:
+            self.assertFalse(is_sure(self.trust, bank, [], self.a, value), value)
+        known = votes(self.trust, range(5), self.a)
+        for value in [(), ("votes", None), ("votes", ()), ["votes"], "votes", (("votes",),), ("vote",), ("open", ()), ("sure",),
+                      ("open",), ("sure", None)]:
+            self.assertFalse(is_sure(self.trust, bank, known, self.a, value), value)
+        self.assertTrue(is_sure(self.trust, bank, known, self.a, ("votes",)))
+
+    def test_a_vote_shows_only_what_is_below_its_payment(self):
+        """Two votes for a, two for b: nobody owes either, and a vote for b shows nothing of b itself."""
+        known = self.known((0, self.a), (1, self.a), (2, self.b), (3, self.b))
+        self.assertEqual("can", may_be_booked(self.trust, SMALL, known, [])[0])
+        bank = ((5, 0), 4, 0)
+        self.assertEqual(("can", ()), may_be_booked(self.trust, bank, known, []))
+        leaves = {member: (member, None) for member in range(4)}
+        for reason, members in [(("against", self.a, known[0]), (0, 2)), (("against", self.b, known[2]), (1, 2)),
+                                (("against", self.a, None), (2,)), (("clash", self.a, self.b, known[0], known[2]), (0, 2))]:
+            tree = (reason, tuple(leaves[member] for member in members))
+            self.assertFalse(is_may(self.trust, bank, known, [], ("never", tree)))
+            self.assertFalse(is_sure(self.trust, bank, known, self.c, ("sure", tree)))
+        # With a vote for c, which has a below, the first of them is right.
+        known += self.known((0, self.c))
+        tree = (("against", self.a, known[4]), (leaves[0], leaves[2]))
+        self.assertTrue(is_may(self.trust, bank, known, [], ("never", tree)))
+        self.assertTrue(is_sure(self.trust, bank, known, self.c, ("sure", tree)))
+        tree = (("against", self.a, known[0]), (leaves[0], leaves[2]))
+        self.assertFalse(is_may(self.trust, bank, known, [], ("never", tree)))
+
+    def test_a_payment_does_not_clash_with_itself(self):
+        """Member 0 voted for c, so it owes a; a and a are no clash, though both are shown."""
+        known = self.known((0, self.c), (1, self.d), (2, self.c), (3, self.d))
+        told = may_be_booked(self.trust, SMALL, known, [])
+        self.assertEqual("never", told[0])
+        below = (("clash", self.a, self.b, known[2], known[1]), ((2, None), (1, None)))
+        other = (("clash", self.a, self.b, known[0], known[3]), ((0, None), (3, None)))
+        first = ("clash", self.a, self.b, known[0], known[1])
+        self.assertTrue(is_may(self.trust, SMALL, known, [], ("never", (first, ((0, below), (1, other))))))
+        for reason in [("clash", self.a, self.a, known[0], known[2]), ("clash", self.a, self.b, known[0], known[0]),
+                       ("clash", self.b, self.a, known[0], known[1]), ("clash", self.a, self.b, known[0], None)]:
+            members = sorted({self.trust.content(vote_name)[1] for vote_name in reason[3:] if vote_name is not None})
+            branches = tuple((member, {0: below, 1: other, 2: other}[member]) for member in members)
+            self.assertFalse(is_may(self.trust, SMALL, known, [], ("never", (reason, branches))))
+        same = (("clash", self.a, self.a, known[0], known[2]), ((0, below), (2, told[1][1][0][1])))
+        self.assertFalse(is_may(self.trust, SMALL, known, [], ("never", same)))
+
     def test_errors(self):
         known = self.known((0, self.a))
         bad_votes = [None, 0, "ab", {}, self.a, [self.a], [None], [known[0], True], ["name"], [[]], [("name", True)],
