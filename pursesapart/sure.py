@@ -26,7 +26,7 @@ class Known:
         self.facts = facts_with(trust, bank, list(wanted) + [ballot[1] for ballot in ballots.values()])
         honest = {vote: ballot for vote, ballot in ballots.items() if ballot[0] not in liars}
         self._voters = self._voters_by_place(honest)
-        names = dict(self.wanted)
+        names = {name: True for name in wanted}
         for _, payment in honest.values():
             for name in self.facts[payment].past[:-1]:
                 names[name] = True
