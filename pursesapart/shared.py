@@ -177,7 +177,7 @@ def followers(split, head):
 def splits_of(charter):
     """The ascending list of all splits of the charter."""
     many, proposers, _ = charter
-    return sorted(rows_of_choices(range(many), proposers, []))
+    return sorted(rows_of_choices(list(range(many)), proposers, []))
 
 
 def rows_of_choices(owners, proposers, others):

@@ -24,7 +24,27 @@ LIBRARY = {
 BARRED_NAMES = """mro elements open input law version_info with_traceback add_note register attrgetter breakpoint compile
 copyright credits delattr dir eval exec exit gc getattr globals hasattr help id importlib license locals methodcaller
 os quit setattr super type vars sys""".split()
+LAZY = "range zip enumerate reversed".split()
+VIEWS = "items keys values".split()
+TAKERS = "list tuple dict sorted sum any all enumerate zip bytes".split()
 BARRED_WORDS = r"\b(type|typing|enum|Enum|Generic|Protocol|ABC|ABCMeta|namedtuple|NamedTuple|TypedDict|_wall|_WallAttr)\b"
+GOOD_ROWS = (
+    "return own(list(range(3)))", "return [x for x in range(3)]", "return sorted(d.items())", "return max(range(3))",
+    "return min(d.values(), default=0)", "return list(enumerate(zip(xs, xs)))", "return list(reversed(range(3)))",
+    "return len(range(3)) + len(d.items())", "return 2 in range(3)", "return tuple(combinations(range(3), 2))",
+    "many = range(3); return list(many) + [x for x in many] + [many[0], len(many)]", "return ', '.join(d.keys())",
+)
+BAD_ROWS = (
+    "return sorted(own(range(3), xs, []))", "return own(xs, d.items())", "return own(by=range(3))", "return range(3)",
+    "return zip(xs, xs)", "return [range(3)]", "return xs.extend(range(3))", "return max(range(3), xs)",
+    "return zip(xs, range(3))", "return list(zip(xs, range(3)))", "return range(3) == xs", "return len(zip(xs, xs))",
+    "return reversed(d.values())", "return list(reversed(enumerate(xs)))", "many = range(3); return own(many)",
+    "many = range(3); return many", "pairs = zip(xs, xs); return list(pairs)", "xs.many = range(3)",
+    "return 2 in d.values()", "return len(d.values())", "return list(enumerate(combinations(xs, 2)))",
+    "one = other = range(3)", "return own(combinations(xs, 2))", "return lambda: range(3)", "a, b = range(2)",
+    "return enumerate(d.keys()) in xs", "many = range(3); return {1: many}", "return max(range(3), key=own)",
+    "many = range(2); many = range(3); return list(many)",
+)
 BARRED_NODES = (
     ast.AsyncFunctionDef, ast.AsyncFor, ast.AsyncWith, ast.Await, ast.Global, ast.GeneratorExp, ast.Set, ast.SetComp,
     ast.Import, ast.AnnAssign, ast.Yield, ast.YieldFrom, ast.NamedExpr, ast.JoinedStr, ast.Div, ast.MatMult,
@@ -42,6 +62,72 @@ def local_names(function):
 def functions_of(tree):
     """All functions, methods and lambdas."""
     return [node for node in ast.walk(tree) if isinstance(node, (ast.FunctionDef, ast.Lambda))]
+
+
+def is_call_of(node, names):
+    """Whether this is a call of one of these functions by its bare name."""
+    return isinstance(node, ast.Call) and isinstance(node.func, ast.Name) and node.func.id in names
+
+
+def is_view(node):
+    """Whether this is a call of items, keys or values."""
+    return isinstance(node, ast.Call) and isinstance(node.func, ast.Attribute) and node.func.attr in VIEWS
+
+
+def kept_ranges(function):
+    """The names to which the function assigns a range."""
+    return [node.targets[0].id for node in ast.walk(function) if isinstance(node, ast.Assign)
+            and is_call_of(node.value, ["range"]) and isinstance(node.targets[0], ast.Name)]
+
+
+def is_iterated_at_once(node, parent):
+    """Whether the parent goes over the node on the spot, in one of the places that L2 and L23 list."""
+    if isinstance(parent, (ast.For, ast.comprehension)):
+        return parent.iter is node
+    if not isinstance(parent, ast.Call) or node not in parent.args:
+        return False
+    if is_call_of(parent, ["min", "max"]):
+        return len(parent.args) == 1 and {word.arg for word in parent.keywords} <= {"default"}
+    if is_call_of(node, LIBRARY["itertools"]):
+        return is_call_of(parent, ["list", "tuple", "sorted", "sum", "any", "all"])
+    if is_call_of(parent, LIBRARY["itertools"]):
+        return not is_call_of(node, ["enumerate", "reversed"])
+    if isinstance(parent.func, ast.Attribute):
+        return parent.func.attr == "join" and isinstance(parent.func.value, ast.Constant)
+    return is_call_of(parent, TAKERS) and parent.args[0] is node
+
+
+def is_asked(node, parent):
+    """Whether the node is a range or a view that is only measured, turned round or asked for an item."""
+    if isinstance(node, ast.Name) and isinstance(parent, ast.Subscript):
+        return not isinstance(parent.slice, ast.Slice)
+    counted = isinstance(node, ast.Name) or is_call_of(node, ["range"])
+    if isinstance(parent, ast.Compare):
+        asked = len(parent.ops) == 1 and isinstance(parent.ops[0], (ast.In, ast.NotIn)) and node in parent.comparators
+        return asked and (counted or is_view(node) and node.func.attr == "keys")
+    if is_call_of(parent, ["len"]):
+        return counted or is_view(node) and node.func.attr == "items"
+    return is_call_of(parent, ["reversed"]) and counted
+
+
+def not_iterated_at_once(tree):
+    """The lines on which something that L23 wants iterated at once is passed on, stored or returned instead.
+
+    Only ranges may be kept under a name: narrower than the rule, and all that the package needs.
+    """
+    lines = []
+    for function in functions_of(tree):
+        kept = kept_ranges(function)
+        for parent in ast.walk(function):
+            for node in ast.iter_child_nodes(parent):
+                read = isinstance(node, ast.Name) and isinstance(node.ctx, ast.Load) and node.id in kept
+                if not (read or is_view(node) or is_call_of(node, LAZY + LIBRARY["itertools"])):
+                    continue
+                stored = isinstance(parent, ast.Assign) and is_call_of(node, ["range"]) and len(parent.targets) == 1
+                once = stored and isinstance(parent.targets[0], ast.Name) and kept.count(parent.targets[0].id) == 1
+                if not (once or is_iterated_at_once(node, parent) or is_asked(node, parent)):
+                    lines.append(node.lineno)
+    return sorted(set(lines))
 
 
 class Language(unittest.TestCase):
@@ -240,6 +326,20 @@ class Language(unittest.TestCase):
             if isinstance(node, ast.Call) and isinstance(node.func, ast.Attribute):
                 if node.func.attr in ("append", "extend", "pop", "clear", "insert", "remove", "update"):
                     self.assertNotIn(ast.unparse(node.func.value), heads, node.lineno)
+
+    def test_what_is_iterated_at_once(self):
+        self.over_files(self.check_what_is_iterated_at_once)
+
+    def check_what_is_iterated_at_once(self, _, tree):
+        self.assertEqual([], not_iterated_at_once(tree))
+
+    def test_the_look_at_what_is_iterated_tells_good_from_bad(self):
+        for row in GOOD_ROWS:
+            with self.subTest(row=row):
+                self.assertEqual([], not_iterated_at_once(ast.parse("def told(xs, d):\n    " + row)))
+        for row in BAD_ROWS:
+            with self.subTest(row=row):
+                self.assertEqual([2], not_iterated_at_once(ast.parse("def told(xs, d):\n    " + row)))
 
     def test_all_and_the_like_take_lists_or_names(self):
         self.over_files(self.check_all_and_the_like_take_lists_or_names)
